@@ -1,0 +1,85 @@
+"""Small houses with all their states, worked out without the package's own answers."""
+
+from itertools import combinations, combinations_with_replacement, product
+
+
+def subsets(cells):
+    return [row for size in range(cells + 1) for row in combinations(range(cells), size)]
+
+
+def contents(cells):
+    return sorted([(-1,)] + subsets(cells))
+
+
+def loads_of(house, state):
+    wides = sum(content == (-1,) for content in state)
+    return [wides + sum(cell in content for content in state) for cell in range(len(house.limits))]
+
+
+def is_valid(house, state):
+    wides = sum(content == (-1,) for content in state)
+    within = all(load <= limit for load, limit in zip(loads_of(house, state), house.limits))
+    return within and wides <= house.wide_limit
+
+
+def all_kinds(house):
+    """All valid states, each with its contents in ascending order."""
+    rows = combinations_with_replacement(contents(len(house.limits)), house.channels)
+    return [row for row in rows if is_valid(house, row)]
+
+
+def after_coming(state, where):
+    """The kinds of all states that a call can lead to."""
+    found = set()
+    for channel, content in enumerate(state):
+        fits = content == () if where == -1 else -1 not in content and where not in content
+        if fits:
+            new = tuple(sorted(content + (where,)))
+            found.add(tuple(sorted(state[:channel] + (new,) + state[channel + 1:])))
+    return found
+
+
+def after_going(state):
+    found = set()
+    for channel, content in enumerate(state):
+        for where in content:
+            new = tuple(cell for cell in content if cell != where)
+            found.add(tuple(sorted(state[:channel] + (new,) + state[channel + 1:])))
+    return found
+
+
+def comings(house, state):
+    """For each allowed call that comes, the kinds that it can lead to."""
+    wides = sum(content == (-1,) for content in state)
+    rows = []
+    for where in range(-1, len(house.limits)):
+        row = [load + (where in (-1, cell)) for cell, load in enumerate(loads_of(house, state))]
+        if all(load <= limit for load, limit in zip(row, house.limits)):
+            if where != -1 or wides < house.wide_limit:
+                rows.append(after_coming(state, where))
+    return rows
+
+
+def safe_kinds(house):
+    """The states from which calls can be given channels for ever: the meaning of point 16."""
+    safe = set(all_kinds(house))
+    calls = {state: comings(house, state) for state in safe}
+    gone = {state: after_going(state) for state in safe}
+    while True:
+        lost = {
+            state for state in safe
+            if not gone[state] <= safe or not all(found & safe for found in calls[state])
+        }
+        if not lost:
+            return safe
+        safe -= lost
+
+
+def most_kept(state, rooms):
+    """The greatest number of kept calls, found by trying all choices."""
+    best = 0
+    choices = [(None,) + tuple(cell for cell in content if cell >= 0) for content in state]
+    for choice in product(*choices):
+        if all(choice.count(cell) <= room for cell, room in enumerate(rooms)):
+            best = max(best, sum(cell is not None for cell in choice))
+    return best

@@ -1,0 +1,1 @@
+"""Channels for calls that are never refused and never moved."""
