@@ -24,6 +24,10 @@ BARRED_WORDS = set(
     "abstractmethod register mro elements open input law id dir vars eval exec exit help os sys "
     "_record _outside _cold _wall".split()
 )
+LIBRARY = {
+    "heapq": {"heappush", "heappop", "heapify", "heapreplace", "heappushpop"},
+    "math": {"gcd", "lcm", "isqrt", "comb", "perm", "factorial"},
+}
 BARRED_NODES = (
     ast.AsyncFunctionDef, ast.Global, ast.Nonlocal, ast.Div, ast.Set, ast.SetComp, ast.Lambda,
     ast.Yield, ast.YieldFrom, ast.GeneratorExp, ast.With, ast.Import, ast.AnnAssign, ast.Match,
@@ -154,12 +158,34 @@ class StatementsTest(unittest.TestCase):
         for name, tree in trees().items():
             for node in ast.walk(tree):
                 if isinstance(node, ast.ExceptHandler):
-                    self.assertIn(node.type.id, imported_names(tree), name)
+                    caught = node.type.elts if isinstance(node.type, ast.Tuple) else [node.type]
+                    for kind in caught:
+                        self.assertIn(kind.id, imported_names(tree), name)
 
 
 class ImportsTest(unittest.TestCase):
-    def sources(self, tree):
+    def imports(self, tree):
         return [node for node in tree.body if isinstance(node, ast.ImportFrom)]
+
+    def sources(self, tree):
+        return [node for node in self.imports(tree) if node.module not in LIBRARY]
+
+    def test_imports_from_the_library(self):
+        for name, tree in trees().items():
+            for node in self.imports(tree):
+                if node.module in LIBRARY:
+                    self.assertEqual({alias.asname for alias in node.names}, {None}, name)
+                    self.assertLessEqual({alias.name for alias in node.names}, LIBRARY[node.module], name)
+
+    def test_library_names_are_only_called(self):
+        for name, tree in trees().items():
+            borrowed = {
+                alias.name for node in self.imports(tree) if node.module in LIBRARY for alias in node.names
+            }
+            called = [node.func for node in ast.walk(tree) if isinstance(node, ast.Call) and not node.keywords]
+            for node in ast.walk(tree):
+                if isinstance(node, ast.Name) and node.id in borrowed:
+                    self.assertIn(node, called, name)
 
     def test_imports_name_the_defining_file(self):
         every = trees()

@@ -28,36 +28,67 @@ def all_kinds(house):
     return [row for row in rows if is_valid(house, row)]
 
 
+def may_come(house, state, where):
+    wides = sum(content == (-1,) for content in state)
+    row = [load + (where in (-1, cell)) for cell, load in enumerate(loads_of(house, state))]
+    within = all(load <= limit for load, limit in zip(row, house.limits))
+    return within and (where != -1 or wides < house.wide_limit)
+
+
+def fits(content, where):
+    return content == () if where == -1 else -1 not in content and where not in content
+
+
+def fitting_channels(state, where):
+    return [channel for channel, content in enumerate(state) if fits(content, where)]
+
+
+def added(state, channel, where):
+    """The state with the call on the channel, as a tuple."""
+    return tuple(
+        tuple(sorted(content + (where,))) if at == channel else content for at, content in enumerate(state)
+    )
+
+
+def removed(state, channel, where):
+    """The state without the call, as a tuple."""
+    return tuple(
+        tuple(cell for cell in content if cell != where) if at == channel else content
+        for at, content in enumerate(state)
+    )
+
+
+def all_calls(state):
+    return [(channel, where) for channel, content in enumerate(state) for where in content]
+
+
+def drawn_state(house, draw, steps):
+    """A valid state that drawn allowed events lead to, each call on a drawn channel."""
+    state = tuple(() for _ in range(house.channels))
+    for _ in range(steps):
+        where = draw.randrange(-1, len(house.limits))
+        channels = fitting_channels(state, where)
+        if channels and may_come(house, state, where):
+            state = added(state, draw.choice(channels), where)
+        calls = all_calls(state)
+        if calls and draw.random() < 0.3:
+            state = removed(state, *draw.choice(calls))
+    return state
+
+
 def after_coming(state, where):
     """The kinds of all states that a call can lead to."""
-    found = set()
-    for channel, content in enumerate(state):
-        fits = content == () if where == -1 else -1 not in content and where not in content
-        if fits:
-            new = tuple(sorted(content + (where,)))
-            found.add(tuple(sorted(state[:channel] + (new,) + state[channel + 1:])))
-    return found
+    return {tuple(sorted(added(state, channel, where))) for channel in fitting_channels(state, where)}
 
 
 def after_going(state):
-    found = set()
-    for channel, content in enumerate(state):
-        for where in content:
-            new = tuple(cell for cell in content if cell != where)
-            found.add(tuple(sorted(state[:channel] + (new,) + state[channel + 1:])))
-    return found
+    return {tuple(sorted(removed(state, channel, where))) for channel, where in all_calls(state)}
 
 
 def comings(house, state):
     """For each allowed call that comes, the kinds that it can lead to."""
-    wides = sum(content == (-1,) for content in state)
-    rows = []
-    for where in range(-1, len(house.limits)):
-        row = [load + (where in (-1, cell)) for cell, load in enumerate(loads_of(house, state))]
-        if all(load <= limit for load, limit in zip(row, house.limits)):
-            if where != -1 or wides < house.wide_limit:
-                rows.append(after_coming(state, where))
-    return rows
+    places = range(-1, len(house.limits))
+    return [after_coming(state, where) for where in places if may_come(house, state, where)]
 
 
 def safe_kinds(house):

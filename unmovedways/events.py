@@ -3,6 +3,8 @@
 from unmovedways.errors import ChannelTaken, NoSuchCall, OverLimit
 from unmovedways.states import FREE, WIDE, call_loads, loads, wide_count
 
+NO_CHANNEL = -1
+
 
 def allowed(house, state, event):
     """Tells whether the event may happen in this state."""

@@ -20,10 +20,11 @@ def bearing(state):
 
 def outside_count(state, lot):
     """Returns the number of channels that carry a local call outside of the lot."""
-    return len([content for content in state if _leaves(content, lot)])
+    return len([content for content in state if leaves(content, lot)])
 
 
-def _leaves(content, lot):
+def leaves(content, lot):
+    """Tells whether a channel with this content carries a local call outside of the lot."""
     if not is_bearing(content):
         return False
     for cell in content:
