@@ -67,6 +67,42 @@ def defined_names(tree):
     return rows + [target.id for node in assigned for target in node.targets]
 
 
+CHANGES = {"append", "clear", "extend", "insert", "pop", "remove", "reverse", "setdefault", "update"}
+
+
+def walked_names(loop):
+    """The plain names and attributes that a loop walks itself, not as a new list."""
+    if isinstance(loop, ast.Call) and isinstance(loop.func, ast.Name) and loop.func.id in ("enumerate", "zip"):
+        return set().union(*[walked_names(part) for part in loop.args])
+    if isinstance(loop, ast.Call) and isinstance(loop.func, ast.Attribute) and not loop.args:
+        return walked_names(loop.func.value)
+    if isinstance(loop, (ast.IfExp, ast.BoolOp)):
+        return set().union(*[walked_names(part) for part in ast.iter_child_nodes(loop)])
+    return {ast.unparse(loop)} if isinstance(loop, (ast.Name, ast.Attribute, ast.Subscript)) else set()
+
+
+def same_names(function, names):
+    """The names that an assignment of one name to another one makes the same."""
+    found = set(names)
+    for _ in range(3):
+        for node in ast.walk(function):
+            if isinstance(node, ast.Assign) and isinstance(node.value, (ast.Name, ast.Attribute)):
+                row = {ast.unparse(node.value), *map(ast.unparse, node.targets)}
+                found |= row if row & found else set()
+    return found
+
+
+def changed_names(rows):
+    """The names of what the statements change in place or assign an item of."""
+    found = set()
+    for node in [inner for row in rows for inner in ast.walk(row)]:
+        if isinstance(node, ast.Call) and isinstance(node.func, ast.Attribute) and node.func.attr in CHANGES:
+            found.add(ast.unparse(node.func.value))
+        if isinstance(node, ast.Subscript) and not isinstance(node.ctx, ast.Load):
+            found.add(ast.unparse(node.value))
+    return found
+
+
 def imported_names(tree):
     return [alias.name for node in tree.body if isinstance(node, ast.ImportFrom) for alias in node.names]
 
@@ -161,6 +197,32 @@ class StatementsTest(unittest.TestCase):
                     caught = node.type.elts if isinstance(node.type, ast.Tuple) else [node.type]
                     for kind in caught:
                         self.assertIn(kind.id, imported_names(tree), name)
+
+
+class LoopsTest(unittest.TestCase):
+    def changed_in_a_loop(self, tree):
+        """What some loop of the tree walks and changes, also by another name."""
+        found = set()
+        for function in functions(tree):
+            for loop in ast.walk(function):
+                if isinstance(loop, ast.For):
+                    found |= same_names(function, walked_names(loop.iter)) & changed_names(loop.body)
+        return found
+
+    def test_what_a_loop_walks_is_not_changed_in_it(self):
+        for name, tree in trees().items():
+            self.assertEqual(self.changed_in_a_loop(tree), set(), name)
+
+    def test_the_check_itself(self):
+        head = "def walk(rows, self):\n    more = []\n    rows = self.rows\n"
+        for walked, change, right in (
+            ("rows", "rows.append(row)", False), ("rows", "more.append(row)", True), ("rows", "rows[0] = row", False),
+            ("list(rows)", "rows.append(row)", True), ("enumerate(rows)", "del rows[0]", False),
+            ("self.rows", "rows.pop()", False), ("rows if more else []", "self.rows.clear()", False),
+            ("rows.items()", "rows[1] = row", False), ("zip(more, rows)", "more.extend(rows)", False),
+        ):
+            tree = ast.parse(f"{head}    for row in {walked}:\n        {change}\n")
+            self.assertEqual(self.changed_in_a_loop(tree) == set(), right, (walked, change))
 
 
 class ImportsTest(unittest.TestCase):

@@ -24,20 +24,21 @@ def judge_rule(house, rule, state):
     if not is_safe(house, state):
         return ("wrong", [])
     plays = {kinds(state): []}
-    farthest = [state]
-    while len(farthest) > 0:
-        following = []
-        for present in farthest:
-            before = plays[kinds(present)]
-            for record, after in _steps(house, rule, present):
-                if after is not None and kinds(after) in plays:
-                    continue
-                play = [*before, record]
-                if after is None or not is_safe(house, after):
-                    return ("wrong", play)
-                plays[kinds(after)] = play
-                following.append(after)
-        farthest = following
+    # Each state stands behind all that shorter plays lead to, so the first wrong play is a shortest one.
+    states = [state]
+    place = 0
+    while place < len(states):
+        present = states[place]
+        before = plays[kinds(present)]
+        for record, after in _steps(house, rule, present):
+            if after is not None and kinds(after) in plays:
+                continue
+            play = [*before, record]
+            if after is None or not is_safe(house, after):
+                return ("wrong", play)
+            plays[kinds(after)] = play
+            states.append(after)
+        place += 1
     return ("right", sorted(plays))
 
 
