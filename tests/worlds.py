@@ -114,3 +114,36 @@ def most_kept(state, rooms):
         if all(choice.count(cell) <= room for cell, room in enumerate(rooms)):
             best = max(best, sum(cell is not None for cell in choice))
     return best
+
+
+def moved(state):
+    """The kinds of all states that one move of a local call leads to."""
+    found = set()
+    for source, cell in all_calls(state):
+        if cell >= 0:
+            for target in fitting_channels(state, cell):
+                found.add(tuple(sorted(added(removed(state, source, cell), target, cell))))
+    return found
+
+
+def move_counts(states, ends):
+    """For each of the states the fewest moves that lead to one of the ends, if any do; moves can be made back."""
+    counts = {state: 0 for state in states if state in ends}
+    row = list(counts)
+    while row:
+        row = [(after, counts[state] + 1) for state in row for after in moved(state) if after not in counts]
+        counts.update(row)
+        row = list(dict(row))
+    return counts
+
+
+def end_counts(states, ends):
+    """For each of the states the fewest local calls without which it is one of the ends, if there are any."""
+    counts = {}
+    for state in sorted(states, key=lambda row: sum(len(content) for content in row)):
+        calls = [(channel, cell) for channel, cell in all_calls(state) if cell >= 0]
+        found = [counts.get(tuple(sorted(removed(state, *call)))) for call in calls]
+        found = [0] if state in ends else [count + 1 for count in found if count is not None]
+        if found:
+            counts[state] = min(found)
+    return counts

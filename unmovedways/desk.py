@@ -18,6 +18,7 @@ class Desk:
         self.house = house
         self._state = contents
         self._closed = ()
+        self._beginning = (house, contents)
         self._records = []
         # What stood before each record, and the records taken back with what stood after each.
         self._pasts = []
@@ -41,6 +42,11 @@ class Desk:
     def spare(self):
         rest = rest_state(self._state, self._closed)
         return len(rest) - need(self.house, rest)
+
+    def beginning(self):
+        """Returns the house and the state that the desk began with."""
+        house, state = self._beginning
+        return (house, list(state))
 
     def grants(self, where):
         """Returns the channels that may be given to a call, in ascending order."""

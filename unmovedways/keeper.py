@@ -2,7 +2,7 @@
 
 from unmovedways.errors import Refused
 from unmovedways.events import fitting
-from unmovedways.need import find_lot, leaves, level
+from unmovedways.need import find_lot, leaves, level, outside_allowed
 from unmovedways.states import is_bearing
 
 
@@ -12,7 +12,7 @@ class Keeper:
     def __init__(self, house, state):
         self.lot = find_lot(house, state)
         self.most_bearing = level(house, state)
-        self.most_outside = _most_outside(house, self.lot, self.most_bearing)
+        self.most_outside = outside_allowed(house, self.lot, self.most_bearing)
 
     def __call__(self, state, where):
         channels = fitting(state, where)
@@ -23,11 +23,3 @@ class Keeper:
             if len(row) > 0:
                 return row[0]
         raise Refused(where)
-
-
-def _most_outside(house, lot, most_bearing):
-    if len(lot) == 0:
-        return most_bearing
-    inside = sum([house.limits[cell] for cell in lot])
-    too_many = house.channels + 1 - most_bearing
-    return most_bearing - 1 - inside + len(lot) * too_many

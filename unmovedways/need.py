@@ -80,3 +80,12 @@ def find_lot(house, state):
         if holds(house, state, lot):
             return lot
     raise Unsafe(need(house, state))
+
+
+def outside_allowed(house, lot, most_bearing):
+    """Returns how many channels may carry local calls outside of the lot if so many at most are bearing."""
+    if len(lot) == 0:
+        return most_bearing
+    inside = sum([house.limits[cell] for cell in lot])
+    too_many = house.channels + 1 - most_bearing
+    return most_bearing - 1 - inside + len(lot) * too_many

@@ -29,10 +29,11 @@ def state_text(state):
 def _content_text(content):
     if content == FREE:
         return "."
-    return "".join([_where_text(where) for where in content])
+    return "".join([where_text(where) for where in content])
 
 
-def _where_text(where):
+def where_text(where):
+    """Returns the word for the place of a call."""
     return "*" if where == WIDE else str(where)
 
 
@@ -40,9 +41,9 @@ def record_text(record):
     """Returns the written form of a record."""
     kind = record[0]
     if kind == "come":
-        return f"come {_where_text(record[1])} {record[2]}"
+        return f"come {where_text(record[1])} {record[2]}"
     if kind == "go":
-        return f"go {record[1]} {_where_text(record[2])}"
+        return f"go {record[1]} {where_text(record[2])}"
     if kind == "change":
         return "change " + _values_text(record[1], record[2], record[3])
     return f"{kind} {record[1]}"
