@@ -42,6 +42,17 @@ FUNCTIONS = {
         "size_of": "(house)", "judge_rule": "(house, rule, state)",
         "check_reached": "(house, rule, state, reached)",
     },
+    "mending": {
+        "calls_to_end": "(house, state)", "apply_moves": "(state, moves)", "moves_to_safety": "(house, state)",
+        "pack_moves": "(state, most)", "way_moves": "(state)",
+    },
+    "nets": {"least_channels": "(net)"},
+    "converters": {
+        "fit_places": "(net)", "best_chain": "(worths)", "best_ring": "(worths)", "best_bare": "(net, worths)",
+        "bare_counts": "(net, most)",
+    },
+    "lines": {"check_sum": "(text)", "record_line": "(line, body)", "read_lines": "(text)"},
+    "desklog": {"desk_log": "(desk)", "open_desk": "(text)"},
 }
 CLASSES = {
     ("house", "House"): {
@@ -61,6 +72,28 @@ CLASSES = {
         "redo": "(self, count=1)",
     },
     ("rules", "Rule"): {"__init__": "(self, orders)", "__call__": "(self, state, where)", "is_full": "(self)"},
+    ("nets", "Net"): {
+        "__init__": "(self, links, *, channels=8, bare=())", "house_of": "(self, group)", "parts_of": "(self, route)",
+    },
+    ("netdesk", "NetDesk"): {
+        "__init__": "(self, net)", "__iter__": "(self)", "__len__": "(self)", "loads": None, "greatest_need": None,
+        "book": "(self, route, *, wish=0)", "release": "(self, number)", "set_bare": "(self, place)",
+        "set_converter": "(self, place)", "route_of": "(self, number)", "channels_of": "(self, number)",
+        "group_state": "(self, group)",
+    },
+    ("agents", "Agent"): {
+        "__init__": "(self, net, group, *, log='')", "state": None, "log": None, "calls": "(self)", "ended": "(self)",
+        "hear": "(self, letter)", "hear_cut": "(self, letter, keep)",
+    },
+    ("ledger", "Ledger"): {
+        "__init__": "(self, net)", "loads": None, "ask": "(self, route)", "end": "(self, number)",
+        "hear": "(self, letter)", "status": "(self, number)", "given": "(self, number)", "unanswered": "(self)",
+    },
+    ("post", "Post"): {
+        "__init__": "(self, net)", "letters": None, "ask": "(self, route)", "end": "(self, number)", "resend": "(self)",
+        "deliver": "(self, index)", "double": "(self, index)", "lose": "(self, index)", "cut": "(self, index, keep)",
+        "settle": "(self)",
+    },
 }
 
 
