@@ -19,7 +19,7 @@ def log_of(*bodies):
 
 def seen(agent):
     """All that can be read of an agent."""
-    return [vars(agent.net), agent.group, agent.state, agent.log, agent.calls(), agent.ended()]
+    return [vars(agent.net), agent.group, list(agent.state), agent.log, list(agent.calls()), list(agent.ended())]
 
 
 def heard(agent, *letters):
@@ -170,7 +170,9 @@ class CutTest(AgentTest):
         return heard(Agent(NET, 0), (3, 0), (4, -1), 5)
 
     def test_each_number_of_signs(self):
-        for letter, body in ((("take", 8, 0, 1), "take 8 1 0"), (("drop", 4, 0), "drop 4"), (("drop", 77, 0), "drop 77")):
+        for letter, body in (
+            (("take", 8, 0, 1), "take 8 1 0"), (("drop", 4, 0), "drop 4"), (("drop", 77, 0), "drop 77"),
+        ):
             line = record_line(3, body)
             whole = self.agents()
             whole.hear(letter)
@@ -230,11 +232,14 @@ class LogTest(AgentTest):
 
     def test_other_forms(self):
         for body in (
-            "take", "take 0", "take 0 0", "take 0 0 0 0", "drop", "drop 0 0", "drop *", "drop x", "Take 0 0 0", "DROP 0",
+            "take", "take 0", "take 0 0", "take 0 0 0 0", "drop", "drop 0 0", "drop *", "drop x", "Take 0 0 0",
+            "DROP 0",
             "take  0 0 0", "take 0  0 0", " take 0 0 0", "take 0 0 0 ", " drop 0", "drop 0 ", "drop  0", "given 0 0 0",
             "take 00 0 0", "take 0 00 0", "take 0 0 00", "drop 00", "drop 01", "take 01 0 0", "take -1 0 0", "drop -1",
-            "take +1 0 0", "drop +1", "take 0 -1 0", "take 0 0 -1", "take 0 + 0", "take 0 0 *", "take * 0 0", "take 0 ** 0",
-            "take 0 3 0", "take 0 4 0", "take 0 5 0", "take 0 10 0", "take 0 x 0", "take 0 0 x", "take 0,0 0", "come 0 0",
+            "take +1 0 0", "drop +1", "take 0 -1 0", "take 0 0 -1", "take 0 + 0", "take 0 0 *", "take * 0 0",
+            "take 0 ** 0",
+            "take 0 3 0", "take 0 4 0", "take 0 5 0", "take 0 10 0", "take 0 x 0", "take 0 0 x", "take 0,0 0",
+            "come 0 0",
             "take 1.0 0 0", "drop 1e3", "take 0 01 0", " ", "0", "dropped 0 0", "take 0 0 0\\n",
         ):
             self.assert_bad(log_of(body), 0)

@@ -1,6 +1,7 @@
 import random
 import unittest
 
+from tests.deeds import DeedTest
 from tests.worlds import added, all_kinds, fitting_channels, may_come
 from unmovedways.closing import may_close, rest_house, rest_state
 from unmovedways.desk import Desk
@@ -18,7 +19,7 @@ def values(house):
 
 def seen(desk):
     """All that can be read of a desk."""
-    return [*values(desk.house), desk.state, desk.closed, desk.spare, list(desk), len(desk)]
+    return [*values(desk.house), list(desk.state), desk.closed, desk.spare, list(desk), len(desk)]
 
 
 def desk_of(limits, text, closed=(), wide_limit=20):
@@ -30,15 +31,8 @@ def desk_of(limits, text, closed=(), wide_limit=20):
     return desk
 
 
-class DeskTest(unittest.TestCase):
-    def assert_error(self, desk, kind, attributes, deed, *args, **keywords):
-        """Checks the error of a deed and that the desk stays as it is."""
-        before = seen(desk)
-        with self.subTest(deed=deed, args=args, keywords=keywords):
-            with self.assertRaises(kind) as found:
-                getattr(desk, deed)(*args, **keywords)
-            self.assertEqual(vars(found.exception), attributes)
-            self.assertEqual(seen(desk), before)
+class DeskTest(DeedTest):
+    seen = staticmethod(seen)
 
 
 class MakingTest(DeskTest):

@@ -54,6 +54,17 @@ def drawn_deed(desk, draw):
         getattr(desk, kind)(channel)
 
 
+def all_grants(desk):
+    """The grants of a desk for each place, or None where no call may come."""
+    rows = []
+    for where in range(-1, desk.house.cells):
+        try:
+            rows.append(desk.grants(where))
+        except OverLimit:
+            rows.append(None)
+    return rows
+
+
 class DeskLogTest(unittest.TestCase):
     def assert_bad(self, text, line):
         with self.subTest(text=text):
@@ -64,6 +75,7 @@ class DeskLogTest(unittest.TestCase):
     def assert_same(self, desk, other):
         self.assertEqual(seen(desk), seen(other))
         self.assertEqual(desk_log(desk), desk_log(other))
+        self.assertEqual(all_grants(desk), all_grants(other))
 
 
 class WritingTest(DeskLogTest):
@@ -199,10 +211,12 @@ class FirstLineTest(DeskLogTest):
             f"desk {house} state  {state}", f" desk {house} state {state}", f"desk {house} state {state} ",
             f"desk state {state} {house}", f"desk {state} state {house}", f"state {state} desk {house}",
             f"desk {house} State {state}", f"desk {house} state {state} state {state}", f"desk{house} state {state}",
-            "desk limits 3 3 wides 20 channels 5 state . . . . .", "desk channels 5 limits 3 3 wides 20 state . . . . .",
+            "desk limits 3 3 wides 20 channels 5 state . . . . .",
+            "desk channels 5 limits 3 3 wides 20 state . . . . .",
             "desk limits 03 3 channels 5 wides 20 state . . . . .", "desk limits channels 5 wides 20 state . . . . .",
             "desk limits 3 3 channels 5 wides 21 state . . . . .", "desk limits 21 channels 24 wides 20 state none",
-            f"desk {house} state . . . . +", f"desk {house} state . . . . 10", f"desk {house} state none", "desk", "state",
+            f"desk {house} state . . . . +", f"desk {house} state . . . . 10", f"desk {house} state none", "desk",
+            "state",
             " state ", "desk  state ", "come 0 0", "change limits 3 3 channels 5 wides 20",
         ):
             self.assert_bad(log_of(body), 0)
@@ -230,7 +244,8 @@ class RecordsTest(DeskLogTest):
     def test_no_written_records(self):
         for body in (
             "come", "come 0", "come 0 0 0", "come 00 0", "come 0 00", "come +0 0", "come 0 24", "come 5 0", "come x 0",
-            "come * -1", " come 0 0", "come 0 0 ", "come  0 0", "go 0", "go 0 0 0", "go * 0", "close", "close *", "close 24",
+            "come * -1", " come 0 0", "come 0 0 ", "come  0 0", "go 0", "go 0 0 0", "go * 0", "close", "close *",
+            "close 24",
             "close 01", "reopen", "undo", "undo 1", "redo", "change", "change limits 3 3", HEAD, "COME 0 0", "drop 0",
             "change limits 3 3 channels 5 wides 21", "change 3 3 5 20", " ", "take 0 0 0", "come 0, 0",
         ):
@@ -317,7 +332,9 @@ class RecordsTest(DeskLogTest):
             desk = drawn_desk(draw, 12)
             bodies = read_lines(desk_log(desk))[0]
             channel, where = draw.randrange(14), draw.choice("*0123")
-            body = draw.choice((f"come {where} {channel}", f"go {channel} {where}", f"close {channel}", f"reopen {channel}"))
+            body = draw.choice((
+                f"come {where} {channel}", f"go {channel} {where}", f"close {channel}", f"reopen {channel}",
+            ))
             try:
                 again = open_desk(log_of(*bodies, body))
             except BadLog as error:

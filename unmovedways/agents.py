@@ -42,11 +42,11 @@ class Agent:
 
     def _could_do(self, deed):
         """Tells whether some letter would make the agent do this now."""
-        where = deed[2:3]
-        if where != () and where[0] >= self._house.cells:
+        if deed[0] == "take" and deed[2] >= self._house.cells:
             return False
+        letter = (deed[0], deed[1], self.group, *deed[2:3])
         try:
-            return self._deed_for((deed[0], deed[1], self.group, *where)) == deed
+            return self._deed_for(letter) == deed
         except OverLimit:
             return False
 

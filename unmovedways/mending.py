@@ -21,7 +21,7 @@ def calls_to_end(house, state):
 def _plans(house, state, lot):
     """Returns, for each number of bearing channels that the lot can keep safe, the fewest calls to end."""
     goals = []
-    # More bearing channels than the state has already would only leave less room outside of the lot.
+    # To allow more bearing channels than the level would leave no more room outside of the lot.
     for most in range(house.greatest, level(house, state) + 1):
         allowed_outside = outside_allowed(house, lot, most)
         if _is_plan(house, lot, most, allowed_outside):
@@ -66,8 +66,6 @@ def _losses(channel, content, lot):
     if not leaves(content, lot):
         return [(1, 0, calls)]
     outside = tuple([(channel, cell) for cell in content if cell not in lot])
-    if len(outside) == len(calls):
-        return [(1, 1, calls)]
     return [(1, 1, calls), (0, 1, outside)]
 
 
